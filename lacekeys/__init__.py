@@ -1,0 +1,1 @@
+"""How a grid kept by laced bits is read."""

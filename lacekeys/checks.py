@@ -1,0 +1,66 @@
+"""Checks of arguments that may be any value: numbers, bits, cells, keys and boxes."""
+
+from lacekeys.errors import InvalidBits, InvalidBox, InvalidCell, InvalidKey
+
+MOST_BITS = 100
+
+
+def is_integer(value):
+    """Tell whether a value is an integer, other than True and False."""
+    return isinstance(value, int) and not isinstance(value, bool)
+
+
+def is_between(value, low, high):
+    """Tell whether a value is an integer from low to high."""
+    return is_integer(value) and low <= value <= high
+
+
+def are_integers(value, many):
+    """Tell whether a value is a tuple of so many integers."""
+    if not isinstance(value, tuple) or len(value) != many:
+        return False
+    return all([is_integer(part) for part in value])
+
+
+def is_cell(value, x_bits, y_bits):
+    """Tell whether a value is a cell of the grid."""
+    if not are_integers(value, 2):
+        return False
+    x, y = value
+    return 0 <= x < (1 << x_bits) and 0 <= y < (1 << y_bits)
+
+
+def is_box(value, x_bits, y_bits):
+    """Tell whether a value is a box of the grid."""
+    if not are_integers(value, 4):
+        return False
+    x1, y1, x2, y2 = value
+    return 0 <= x1 <= x2 < (1 << x_bits) and 0 <= y1 <= y2 < (1 << y_bits)
+
+
+def check_bits(x_bits, y_bits):
+    """Raise InvalidBits unless there is a grid of so many bits."""
+    if not is_between(x_bits, 0, MOST_BITS):
+        raise InvalidBits("x_bits is not an integer from 0 to 100")
+    if not is_between(y_bits, 0, MOST_BITS):
+        raise InvalidBits("y_bits is not an integer from 0 to 100")
+    if x_bits == 0 and y_bits == 0:
+        raise InvalidBits("x_bits and y_bits are both 0")
+
+
+def check_cell(cell, x_bits, y_bits):
+    """Raise InvalidCell unless the value is a cell of the grid."""
+    if not is_cell(cell, x_bits, y_bits):
+        raise InvalidCell("not a tuple (x, y) of two integers within the grid")
+
+
+def check_key(key, x_bits, y_bits):
+    """Raise InvalidKey unless the value is a key of the grid."""
+    if not is_between(key, 0, (1 << (x_bits + y_bits)) - 1):
+        raise InvalidKey("not an integer from 0 that is less than the number of cells")
+
+
+def check_box(box, x_bits, y_bits):
+    """Raise InvalidBox unless the value is a box of the grid."""
+    if not is_box(box, x_bits, y_bits):
+        raise InvalidBox("not a tuple (x1, y1, x2, y2) of four integers, a box of the grid")
