@@ -6,7 +6,7 @@ class LaceError(ValueError):
 
 
 class InvalidLoad(LaceError):
-    """A load is none: item is the index of its first wrong item, or None."""
+    """A value is not a load: item is the index of its first wrong item, or None."""
 
     def __init__(self, item):
         super().__init__(f"not a valid load, item: {item}")
@@ -14,7 +14,7 @@ class InvalidLoad(LaceError):
 
 
 class InvalidBoxes(LaceError):
-    """A list of boxes is none: item is the index of its first wrong item, or None."""
+    """A value is not a list of boxes: item is the index of its first wrong item, or None."""
 
     def __init__(self, item):
         super().__init__(f"not a valid list of boxes, item: {item}")
@@ -22,7 +22,7 @@ class InvalidBoxes(LaceError):
 
 
 class InvalidText(LaceError):
-    """A text is not that of a load: part is the index of its first wrong part, or None."""
+    """A value is not the text of a load: part is the index of its first wrong part, or None."""
 
     def __init__(self, part):
         super().__init__(f"not the text of a load, part: {part}")
