@@ -1,6 +1,7 @@
 """Checks of arguments that may be any value: numbers, bits, cells, keys and boxes."""
 
-from lacekeys.errors import InvalidBits, InvalidBox, InvalidCell, InvalidKey
+from lacekeys.boxes import is_in_box
+from lacekeys.errors import InvalidBits, InvalidBox, InvalidCell, InvalidIndex, InvalidKey, InvalidNumber
 
 MOST_BITS = 100
 
@@ -64,3 +65,27 @@ def check_box(box, x_bits, y_bits):
     """Raise InvalidBox unless the value is a box of the grid."""
     if not is_box(box, x_bits, y_bits):
         raise InvalidBox("not a tuple (x1, y1, x2, y2) of four integers, a box of the grid")
+
+
+def check_cell_of_box(cell, box):
+    """Raise InvalidCell unless the value is a cell of a box of the grid."""
+    if not are_integers(cell, 2) or not is_in_box(cell, box):
+        raise InvalidCell("not a tuple (x, y) of two integers within the box")
+
+
+def check_index(index, many):
+    """Raise InvalidIndex unless the value is an index of one of so many things."""
+    if not is_between(index, 0, many - 1):
+        raise InvalidIndex("not an integer from 0 that is less than the number of what is counted")
+
+
+def check_number(number, low):
+    """Raise InvalidNumber unless the value is an integer from low on."""
+    if not is_integer(number) or number < low:
+        raise InvalidNumber(f"not an integer from {low} on")
+
+
+def check_number_between(number, low, high):
+    """Raise InvalidNumber unless the value is an integer from low to high."""
+    if not is_between(number, low, high):
+        raise InvalidNumber(f"not an integer from {low} to {high}")

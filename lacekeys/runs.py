@@ -1,5 +1,6 @@
 """The runs of a box: how many there are, what the letters save, and the ends."""
 
+from lacekeys.boxes import area_of, count_multiples, count_spans
 from lacekeys.layouts import check_layout_and_box
 from lacekeys.words import feet
 
@@ -24,33 +25,14 @@ def ends(layout, box):
     return (layout.key((x1, y1)), layout.key((x2, y2)))
 
 
-def area_of(box):
-    """Return the number of cells of a box."""
-    x1, y1, x2, y2 = box
-    return (x2 - x1 + 1) * (y2 - y1 + 1)
-
-
 def saved_by(letter, i, j, box):
     """Return what a letter with the foot (i, j) saves in a box."""
     x1, y1, x2, y2 = box
     if letter == "x":
-        return _count_borders(i, x1, x2) * _count_spans(j, y1, y2)
-    return _count_borders(j, y1, y2) * _count_spans(i, x1, x2)
+        return _count_borders(i, x1, x2) * count_spans(j, y1, y2)
+    return _count_borders(j, y1, y2) * count_spans(i, x1, x2)
 
 
 def _count_borders(digit, low, high):
     """Return how many odd multiples of 2 ** digit there are above low and up to high."""
-    return _count_multiples(digit, low + 1, high) - _count_multiples(digit + 1, low + 1, high)
-
-
-def _count_spans(digit, low, high):
-    """Return how many multiples of 2 ** digit begin a stretch of 2 ** digit numbers from low to high."""
-    return _count_multiples(digit, low, high - (1 << digit) + 1)
-
-
-def _count_multiples(digit, low, high):
-    """Return how many multiples of 2 ** digit there are from low to high."""
-    # A stretch longer than the side makes high less than low, and the difference could be below 0.
-    if high < low:
-        return 0
-    return (high >> digit) - ((low - 1) >> digit)
+    return count_multiples(digit, low + 1, high) - count_multiples(digit + 1, low + 1, high)

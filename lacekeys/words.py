@@ -25,3 +25,9 @@ def feet(word):
             j -= 1
         found.append((letter, i, j))
     return found
+
+
+def shapes(word):
+    """Return the list of the tuples (i, j), by t from 0 on: so many letters x and y are among the last t letters."""
+    found = [(i, j) for letter, i, j in feet(word)]
+    return found[::-1] + [(word.count("x"), word.count("y"))]

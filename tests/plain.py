@@ -1,5 +1,6 @@
 """What the tests hold the program against, worked out without it, and values for wrong inputs."""
 
+from collections import Counter
 from itertools import combinations
 
 
@@ -59,6 +60,14 @@ def wrong_layouts():
     return strangers() + [0, 1, -1, (), (0, 0), "yxyx", ["yxyx"], ("yxyx",)]
 
 
+def wrong_integers(low, high=None):
+    """Return values that are no integer from low on, or from low to high."""
+    beside = [low - 1, low - 2, -10 ** 30, -10 ** 999]
+    if high is not None:
+        beside += [high + 1, high + 2, 10 ** 99, 10 ** 999]
+    return strangers() + [(), (low,), (low, low), [low], str(low), str(low).encode()] + beside
+
+
 def words(x_bits, y_bits):
     """Return all words of so many letters x and y."""
     many = x_bits + y_bits
@@ -72,6 +81,30 @@ def small_words(most):
     """Return all words of at most so many letters."""
     sizes = [(n, m) for n in range(most + 1) for m in range(most + 1) if 0 < n + m <= most]
     return [word for n, m in sizes for word in words(n, m)]
+
+
+def some_word(chance, x_bits, y_bits):
+    """Return a word of so many letters."""
+    letters = list("x" * x_bits + "y" * y_bits)
+    chance.shuffle(letters)
+    return "".join(letters)
+
+
+def whole_box(word):
+    """Return the box of all cells."""
+    return (0, 0, 2 ** word.count("x") - 1, 2 ** word.count("y") - 1)
+
+
+def some_box(chance, word):
+    """Return a box of the grid of a word."""
+    x1, x2 = sorted(chance.randrange(2 ** word.count("x")) for _ in range(2))
+    y1, y2 = sorted(chance.randrange(2 ** word.count("y")) for _ in range(2))
+    return (x1, y1, x2, y2)
+
+
+def some_cell(chance, box):
+    """Return a cell of a box."""
+    return (chance.randrange(box[0], box[2] + 1), chance.randrange(box[1], box[3] + 1))
 
 
 def digits(number, many):
@@ -99,6 +132,22 @@ def all_boxes(x_bits, y_bits):
     return [(x1, y1, x2, y2) for x1, x2 in x_sides for y1, y2 in y_sides]
 
 
+def all_cases(told):
+    """Tell the tuples (word, listing, box) of all boxes of some words."""
+    for word in told:
+        keys = listing(word)
+        for box in all_boxes(word.count("x"), word.count("y")):
+            yield word, keys, box
+
+
+def some_cases(chance, told, many):
+    """Tell the tuples (word, listing, box) of so many boxes of each of some words."""
+    for word in told:
+        keys = listing(word)
+        for _ in range(many):
+            yield word, keys, some_box(chance, word)
+
+
 def keys_of(keys, box):
     """Return the keys of a box, ascending, by the listing of all keys."""
     x1, y1, x2, y2 = box
@@ -116,6 +165,21 @@ def stretches(told):
     return found
 
 
+def lengths_of(spans):
+    """Return the tuples (length, how many) of stretches, ascending."""
+    return sorted(Counter(last - first + 1 for first, last in spans).items())
+
+
+def gaps_of(spans):
+    """Return the stretches between stretches."""
+    return [(one[1] + 1, two[0] - 1) for one, two in zip(spans, spans[1:])]
+
+
+def is_in(cell, box):
+    """Tell whether a cell is in a box."""
+    return box[0] <= cell[0] <= box[2] and box[1] <= cell[1] <= box[3]
+
+
 def plain_saved(word, told):
     """Return for each letter how many of these keys end at it, the keys ahead being among them too."""
     among = set(told)
@@ -126,27 +190,22 @@ def plain_saved(word, told):
     return counts
 
 
-def halved(word, box):
-    """Return the tuple (runs, saved) of a box of a grid of any size, by putting halves of the grid together."""
-    known = {}
+def plain_blocks(told, first, bits):
+    """Return the tuples (first key, t) of the greatest aligned stretches of listed keys, found by halves."""
+    wanted = range(first, first + 2 ** bits)
+    among = [key for key in wanted if key in told]
+    if len(among) == len(wanted):
+        return [(first, bits)]
+    if not among:
+        return []
+    return plain_blocks(told, first, bits - 1) + plain_blocks(told, first + 2 ** (bits - 1), bits - 1)
 
-    def told(at, box):
-        """Return (begins, ends, joins) of a box that is clipped to the cells of the letters from at on."""
-        i, j = word[at:].count("x"), word[at:].count("y")
-        x1, y1 = max(box[0], 0), max(box[1], 0)
-        x2, y2 = min(box[2], 2 ** i - 1), min(box[3], 2 ** j - 1)
-        if x1 > x2 or y1 > y2:
-            return (False, False, [0] * (i + j))
-        if (x1, y1, x2, y2) == (0, 0, 2 ** i - 1, 2 ** j - 1):
-            return (True, True, [2 ** t for t in range(i + j)])
-        if (at, x1, y1, x2, y2) not in known:
-            dx, dy = (2 ** (i - 1), 0) if word[at] == "x" else (0, 2 ** (j - 1))
-            low = told(at + 1, (x1, y1, x2 if dx == 0 else min(x2, dx - 1), y2 if dy == 0 else min(y2, dy - 1)))
-            high = told(at + 1, (x1 - dx, y1 - dy, x2 - dx, y2 - dy))
-            joins = [int(low[1] and high[0])] + [one + two for one, two in zip(low[2], high[2])]
-            known[at, x1, y1, x2, y2] = (low[0], high[1], joins)
-        return known[at, x1, y1, x2, y2]
 
-    joins = told(0, box)[2]
-    area = (box[2] - box[0] + 1) * (box[3] - box[1] + 1)
-    return (area - sum(joins), joins)
+def all_ways(spans):
+    """Return the tuples (scans, keys) of all ways to join stretches that are neighbours to scans."""
+    gaps = [last - first + 1 for first, last in gaps_of(spans)]
+    area_told = sum(last - first + 1 for first, last in spans)
+    ways = set()
+    for many in range(len(gaps) + 1):
+        ways |= {(1 + many, area_told + sum(gaps) - sum(left)) for left in combinations(gaps, many)}
+    return ways

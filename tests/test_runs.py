@@ -4,7 +4,7 @@ import unittest
 from lacekeys.errors import InvalidBox, InvalidLayout
 from lacekeys.layouts import Layout, columns, laced, rows
 from lacekeys.runs import count_runs, ends, saved
-from tests import plain
+from tests import great, plain
 
 CALLS = (count_runs, saved, ends)
 SQUARE, BAR = (0, 0, 2, 2), (1, 0, 2, 3)
@@ -28,42 +28,27 @@ class SmallGridsTest(unittest.TestCase):
         self.assertEqual(ends(layout, box), (told[0], told[-1]), (word, box))
 
     def test_all_boxes_of_all_words_of_a_few_letters(self):
-        for word in plain.small_words(4):
-            keys = plain.listing(word)
-            for box in plain.all_boxes(word.count("x"), word.count("y")):
-                self.hold(word, keys, box)
+        for word, keys, box in plain.all_cases(plain.small_words(4)):
+            self.hold(word, keys, box)
 
     def test_all_boxes_of_some_words(self):
-        for word in plain.words(3, 3) + ["xxxxxx", "yyyyyy", "xxxxyx", "yxyyyy"]:
-            keys = plain.listing(word)
-            for box in plain.all_boxes(word.count("x"), word.count("y")):
-                self.hold(word, keys, box)
+        for word, keys, box in plain.all_cases(plain.words(3, 3) + ["xxxxxx", "yyyyyy", "xxxxyx", "yxyyyy"]):
+            self.hold(word, keys, box)
 
     def test_some_boxes_of_many_words(self):
         chance = random.Random(2)
-        for word in plain.words(4, 4) + plain.words(5, 2) + plain.words(1, 6):
-            keys = plain.listing(word)
-            for turn in range(6):
-                self.hold(word, keys, some_box(chance, word))
+        for word, keys, box in plain.some_cases(chance, plain.words(4, 4) + plain.words(5, 2) + plain.words(1, 6), 6):
+            self.hold(word, keys, box)
 
 
-def some_box(chance, word):
-    """Return a box of the grid of a word."""
-    x1, x2 = sorted(chance.randrange(2 ** word.count("x")) for _ in range(2))
-    y1, y2 = sorted(chance.randrange(2 ** word.count("y")) for _ in range(2))
-    return (x1, y1, x2, y2)
-
-
-def some_word(chance, x_bits, y_bits):
-    """Return a word of so many letters."""
-    letters = list("x" * x_bits + "y" * y_bits)
-    chance.shuffle(letters)
-    return "".join(letters)
+def great_words(chance):
+    """Return words of great grids, those of one kind of letter among them."""
+    return [rows(100, 100).word, laced(100, 100).word, plain.some_word(chance, 100, 100), "x" * 100, "y" * 100]
 
 
 class GreatGridsTest(unittest.TestCase):
     def hold(self, word, box):
-        runs, letters = plain.halved(word, box)
+        runs, letters = great.halved(word, box)
         layout = Layout(word)
         self.assertEqual(count_runs(layout, box), runs, (word, box))
         self.assertEqual(saved(layout, box), letters, (word, box))
@@ -71,23 +56,21 @@ class GreatGridsTest(unittest.TestCase):
         self.assertEqual(ends(layout, box), (least, greatest), (word, box))
 
     def test_halves_tell_the_same_as_a_listing(self):
-        for word in ("yxyx", "xyyx", "xxy"):
-            keys = plain.listing(word)
-            for box in plain.all_boxes(word.count("x"), word.count("y")):
-                told = plain.keys_of(keys, box)
-                runs = len(plain.stretches(told))
-                self.assertEqual(plain.halved(word, box), (runs, plain.plain_saved(word, told)))
+        for word, keys, box in plain.all_cases(("yxyx", "xyyx", "xxy")):
+            told = plain.keys_of(keys, box)
+            runs = len(plain.stretches(told))
+            self.assertEqual(great.halved(word, box), (runs, plain.plain_saved(word, told)))
 
     def test_great_boxes(self):
         chance = random.Random(3)
         given = [laced(100, 100).word, rows(100, 100).word, columns(100, 100).word, laced(100, 37).word]
-        for word in given + [some_word(chance, 100, 100) for _ in range(4)] + [some_word(chance, 3, 100)]:
+        for word in given + [plain.some_word(chance, 100, 100) for _ in range(4)] + [plain.some_word(chance, 3, 100)]:
             for turn in range(2):
-                self.hold(word, some_box(chance, word))
+                self.hold(word, plain.some_box(chance, word))
 
     def test_boxes_at_the_ends(self):
         chance = random.Random(4)
-        for word in (laced(100, 100).word, some_word(chance, 100, 100)):
+        for word in (laced(100, 100).word, plain.some_word(chance, 100, 100)):
             for box in (
                 (0, 0, LAST - 1, LAST - 1), (1, 1, LAST, LAST), (1, 1, LAST - 1, LAST - 1), (0, 0, LAST, 0),
                 (0, LAST, LAST, LAST), (0, 0, 0, LAST), (LAST, 0, LAST, LAST), (LAST - 1, LAST - 1, LAST, LAST),
@@ -97,7 +80,7 @@ class GreatGridsTest(unittest.TestCase):
 
     def test_whole_grids(self):
         chance = random.Random(5)
-        for word in (rows(100, 100).word, laced(100, 100).word, some_word(chance, 100, 100), "x" * 100, "y" * 100):
+        for word in great_words(chance):
             whole = (0, 0, 2 ** word.count("x") - 1, 2 ** word.count("y") - 1)
             layout = Layout(word)
             self.assertEqual(count_runs(layout, whole), 1)
@@ -106,7 +89,7 @@ class GreatGridsTest(unittest.TestCase):
 
     def test_boxes_of_one_cell(self):
         chance = random.Random(6)
-        for word in (rows(100, 100).word, laced(100, 100).word, some_word(chance, 100, 100), "x" * 100, "y" * 100):
+        for word in great_words(chance):
             layout = Layout(word)
             last = 2 ** len(word) - 1
             for key in (0, 1, last // 2, last // 2 + 1, last - 1, last):

@@ -1,0 +1,34 @@
+"""Holds the functions and classes against the interface of the document: their files, names and arguments."""
+
+import importlib
+import inspect
+import unittest
+
+FUNCTIONS = {
+    "layouts": ["rows(x_bits, y_bits)", "columns(x_bits, y_bits)", "laced(x_bits, y_bits)"]
+    + ["tiled(x_bits, y_bits, tile_x, tile_y)", "Layout(word)"],
+    "runs": ["count_runs(layout, box)", "saved(layout, box)", "ends(layout, box)"],
+    "lengths": ["run_lengths(layout, box)", "gap_lengths(layout, box)", "nth_run(layout, box, index)"]
+    + ["run_of(layout, box, cell)"],
+    "scans": ["fewest_read(layout, box, scans)", "fewest_scans(layout, box, keys)"]
+    + ["least_cost(layout, box, scan_price, key_price)"],
+    "blocks": ["count_blocks(layout, box)", "block_sizes(layout, box)", "block_of(layout, box, cell)"]
+    + ["count_pages(layout, box, bits)"],
+    "ranks": ["rank(layout, box, key)", "cell_at(layout, box, index)", "next_cell(layout, box, key)"]
+    + ["last_cell(layout, box, key)"],
+}
+
+
+class InterfaceTest(unittest.TestCase):
+    def test_each_is_defined_in_its_file_with_its_arguments(self):
+        for name, told in FUNCTIONS.items():
+            module = importlib.import_module(f"lacekeys.{name}")
+            for text in told:
+                with self.subTest(text):
+                    one = getattr(module, text.partition("(")[0])
+                    self.assertEqual(one.__module__, module.__name__)
+                    self.assertEqual(one.__name__ + str(inspect.signature(one)), text)
+
+
+if __name__ == "__main__":
+    unittest.main()
