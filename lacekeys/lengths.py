@@ -25,17 +25,24 @@ def nth_run(layout, box, index):
     """Return the tuple of the first and the last key of the run of a box with an index."""
     runs = count_runs(layout, box)
     check_index(index, runs)
-    joints = find_joints(layout.word, count_parts(layout.word, box))
-    return (_first_key(joints, box, runs - 1 - index), _last_key(joints, box, index))
+    return _run_at(_joints_of(layout, box), box, index, runs)
 
 
 def run_of(layout, box, cell):
     """Return the tuple of the first and the last key of the run of a box with a cell."""
     check_layout_and_box(layout, box)
     check_cell_of_box(cell, box)
-    joints = find_joints(layout.word, count_parts(layout.word, box))
+    joints = _joints_of(layout, box)
     index = _runs_ahead(joints, box, layout.key(cell))
-    runs = count_runs(layout, box)
+    return _run_at(joints, box, index, count_runs(layout, box))
+
+
+def _joints_of(layout, box):
+    return find_joints(layout.word, count_parts(layout.word, box))
+
+
+def _run_at(joints, box, index, runs):
+    """Return the first and the last key of a run of a box with so many runs."""
     return (_first_key(joints, box, runs - 1 - index), _last_key(joints, box, index))
 
 
