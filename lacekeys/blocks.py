@@ -1,6 +1,6 @@
 """The blocks of a box, and the pages that have a cell of it."""
 
-from lacekeys.boxes import count_spans, is_in_box
+from lacekeys.boxes import count_blocks_met, count_spans, is_in_box
 from lacekeys.checks import check_cell_of_box, check_number_between
 from lacekeys.layouts import check_layout_and_box
 from lacekeys.words import shapes
@@ -38,8 +38,7 @@ def count_pages(layout, box, bits):
     check_layout_and_box(layout, box)
     check_number_between(bits, 0, len(layout.word))
     i, j = shapes(layout.word)[bits]
-    x1, y1, x2, y2 = box
-    return ((x2 >> i) - (x1 >> i) + 1) * ((y2 >> j) - (y1 >> j) + 1)
+    return count_blocks_met(i, j, box)
 
 
 def _count_within(word, box):

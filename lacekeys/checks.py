@@ -1,9 +1,13 @@
-"""Checks of arguments that may be any value: numbers, bits, cells, keys and boxes."""
+"""Checks of arguments that may be any value: numbers, bits, cells, keys, boxes, sizes and loads."""
 
 from lacekeys.boxes import is_in_box
-from lacekeys.errors import InvalidBits, InvalidBox, InvalidCell, InvalidIndex, InvalidKey, InvalidNumber
+from lacekeys.errors import InvalidBits, InvalidBox, InvalidBoxes, InvalidCell, InvalidIndex, InvalidKey
+from lacekeys.errors import InvalidLoad, InvalidNumber, InvalidSize
 
 MOST_BITS = 100
+MOST_ITEMS = 20
+MOST_WEIGHT = 10 ** 30
+MOST_BOXES = 3
 
 
 def is_integer(value):
@@ -37,6 +41,14 @@ def is_box(value, x_bits, y_bits):
         return False
     x1, y1, x2, y2 = value
     return 0 <= x1 <= x2 < (1 << x_bits) and 0 <= y1 <= y2 < (1 << y_bits)
+
+
+def is_item(value, x_bits, y_bits):
+    """Tell whether a value is an item of a load: a tuple of a box of the grid and a weight."""
+    if not isinstance(value, tuple) or len(value) != 2:
+        return False
+    box, weight = value
+    return is_box(box, x_bits, y_bits) and is_between(weight, 1, MOST_WEIGHT)
 
 
 def check_bits(x_bits, y_bits):
@@ -89,3 +101,29 @@ def check_number_between(number, low, high):
     """Raise InvalidNumber unless the value is an integer from low to high."""
     if not is_between(number, low, high):
         raise InvalidNumber(f"not an integer from {low} to {high}")
+
+
+def check_sizes(width, height, x_bits, y_bits):
+    """Raise InvalidSize unless the values are a width and a height within the grid."""
+    if not is_between(width, 1, 1 << x_bits):
+        raise InvalidSize("the width is not an integer from 1 to 2 ** x_bits")
+    if not is_between(height, 1, 1 << y_bits):
+        raise InvalidSize("the height is not an integer from 1 to 2 ** y_bits")
+
+
+def check_load(load, x_bits, y_bits):
+    """Raise InvalidLoad unless the value is a load for the grid."""
+    if not isinstance(load, list) or not 1 <= len(load) <= MOST_ITEMS:
+        raise InvalidLoad(None)
+    for at, item in enumerate(load):
+        if not is_item(item, x_bits, y_bits):
+            raise InvalidLoad(at)
+
+
+def check_boxes(boxes, x_bits, y_bits):
+    """Raise InvalidBoxes unless the value is a list of boxes of the grid, not too many of them."""
+    if not isinstance(boxes, list) or not 1 <= len(boxes) <= MOST_BOXES:
+        raise InvalidBoxes(None)
+    for at, box in enumerate(boxes):
+        if not is_box(box, x_bits, y_bits):
+            raise InvalidBoxes(at)

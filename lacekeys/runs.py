@@ -1,6 +1,6 @@
 """The runs of a box: how many there are, what the letters save, and the ends."""
 
-from lacekeys.boxes import area_of, count_multiples, count_spans
+from lacekeys.boxes import area_of, count_odd_multiples, count_spans
 from lacekeys.layouts import check_layout_and_box
 from lacekeys.words import feet
 
@@ -29,10 +29,5 @@ def saved_by(letter, i, j, box):
     """Return what a letter with the foot (i, j) saves in a box."""
     x1, y1, x2, y2 = box
     if letter == "x":
-        return _count_borders(i, x1, x2) * count_spans(j, y1, y2)
-    return _count_borders(j, y1, y2) * count_spans(i, x1, x2)
-
-
-def _count_borders(digit, low, high):
-    """Return how many odd multiples of 2 ** digit there are above low and up to high."""
-    return count_multiples(digit, low + 1, high) - count_multiples(digit + 1, low + 1, high)
+        return count_odd_multiples(i, x1 + 1, x2) * count_spans(j, y1, y2)
+    return count_odd_multiples(j, y1 + 1, y2) * count_spans(i, x1, x2)

@@ -1,6 +1,7 @@
 """What the tests hold the program against on grids of any size, worked out without it and without a listing."""
 
 from collections import Counter
+from math import comb
 
 from tests.plain import digits, plain_key, some_box, some_word, whole_box
 
@@ -147,3 +148,136 @@ def halved_blocks(word, box):
     """Return the tuples (t, how many) of the blocks of a box, ascending."""
     counts = by_halves(word, box, lambda t: Counter(), lambda t: Counter([t]), lambda low, high: low + high)
     return sorted(counts.items())
+
+
+def saved_by_feet(x_bits, y_bits, box):
+    """Return a dict, by (letter, i, j), of what a letter with the foot (i, j) saves in a box."""
+    told = ["x" * (x_bits - i) + "y" * y_bits + "x" * i for i in range(x_bits + 1)]
+    told += ["y" * (y_bits - j) + "x" * x_bits + "y" * j for j in range(y_bits + 1)]
+    found = {}
+    for word in told:
+        for at, many in enumerate(halved(word, box)[1]):
+            behind = word[at + 1:]
+            found[word[at], behind.count("x"), behind.count("y")] = many
+    return found
+
+
+def best_from_the_front(x_bits, y_bits, gains):
+    """Return the tuple (gain, how many, word) of the words with the most gain, the first by alphabet told.
+
+    gains tells the gain of each letter with each foot. The words are put together from the first letter on.
+    """
+    known = {(x_bits, y_bits): (0, 1, "")}
+    for left in range(x_bits + y_bits, 0, -1):
+        longer = {}
+        for i in range(max(0, left - y_bits), min(x_bits, left) + 1):
+            gain, many, word = known[i, left - i]
+            for letter, foot in (("x", (i - 1, left - i)), ("y", (i, left - i - 1))):
+                if min(foot) >= 0:
+                    longer.setdefault(foot, []).append((gain + gains[(letter, *foot)], many, word + letter))
+        for foot, ways in longer.items():
+            most = max(gain for gain, _, _ in ways)
+            those = [(many, word) for gain, many, word in ways if gain == most]
+            known[foot] = (most, sum(many for many, _ in those), min(word for _, word in those))
+    return known[0, 0]
+
+
+def neighbours(word):
+    """Return the words in which two letters side by side are exchanged."""
+    pairs = [at for at in range(len(word) - 1) if word[at] != word[at + 1]]
+    return [word[:at] + word[at + 1] + word[at] + word[at + 2:] for at in pairs]
+
+
+def place_by_alphabet(word):
+    """Return how many words of the same letters are ahead of a word by alphabet."""
+    ahead = 0
+    for at, letter in enumerate(word):
+        if letter == "y" and "x" in word[at:]:
+            # An x in its place, and the other letters in any sequence.
+            left = word[at:]
+            ahead += comb(len(left) - 1, left.count("y"))
+    return ahead
+
+
+def place_classes(bits, size):
+    """Return tuples (least number, how many) of the begins of a stretch of a size that go alike, of so many bits.
+
+    With b the bits of size, a stretch has at most one multiple of 2 ** b behind its begin: what goes alike has the same
+    last b bits and, where there is such a multiple, the same number of bits 0 at its end.
+    """
+    low_bits = size.bit_length()
+    if low_bits >= bits:
+        return [(begin, 1) for begin in range(2 ** bits - size + 1)]
+    found = []
+    for low in range(2 ** low_bits):
+        if low + size - 1 < 2 ** low_bits:
+            found.append((low, 2 ** (bits - low_bits)))
+        else:
+            for zeros in range(low_bits, bits):
+                found.append((2 ** zeros - 2 ** low_bits + low, 2 ** (bits - 1 - zeros)))
+    return found
+
+
+def total_at_places(word, width, height):
+    """Return the sum of the runs of a box of this size at all places, by the places with each pair of keys."""
+    x_bits, y_bits = word.count("x"), word.count("y")
+    x_cover, y_cover = cover_sum(x_bits, width), cover_sum(y_bits, height)
+    total = width * height * (2 ** x_bits - width + 1) * (2 ** y_bits - height + 1)
+    for at, letter in enumerate(word):
+        i, j = word[at + 1:].count("x"), word[at + 1:].count("y")
+        if letter == "x":
+            total -= x_cover(2 ** i - 1, 2 ** (i + 1), 2) * y_cover(0, 2 ** j, 2 ** j)
+        else:
+            total -= y_cover(2 ** j - 1, 2 ** (j + 1), 2) * x_cover(0, 2 ** i, 2 ** i)
+    return total
+
+
+def cover_sum(bits, size):
+    """Return a function (first, step, wide) for stretches of a size among the numbers of so many bits.
+
+    It tells the sum, over all numbers first + k * step, of how many stretches have all of the numbers, so many, from
+    there on.
+    """
+    last = 2 ** bits - size
+
+    def told(first, step, wide):
+        if wide > size:
+            return 0
+        many = (2 ** bits - wide - first) // step + 1
+        if many <= 0:
+            return 0
+        # As many begin up to the number; some of them end ahead of the last one wanted.
+        begun = sum_up_to(first, step, many, last) + many
+        return begun - (sum_up_to(first, step, many, 2 ** bits) - sum_up_to(first, step, many, size - wide))
+
+    return told
+
+
+def sum_up_to(first, step, many, most):
+    """Return the sum of min(first + k * step, most) for k from 0 to many - 1."""
+    below = min(many, max(0, (most - first) // step + 1))
+    return first * below + step * below * (below - 1) // 2 + most * (many - below)
+
+
+def halved_union(word, boxes):
+    """Return the tuple (cells, runs) of boxes together, by halves of the grid."""
+    known = {}
+
+    def told(at, parts):
+        i, j = word[at:].count("x"), word[at:].count("y")
+        grid = (0, 0, 2 ** i - 1, 2 ** j - 1)
+        parts = tuple(sorted({part for part in (common_box(box, grid) for box in parts) if part is not None}))
+        if not parts:
+            return (False, False, 0, 0)
+        if grid in parts:
+            return (True, True, 2 ** (i + j), 1)
+        if (at, parts) not in known:
+            dx, dy = (2 ** (i - 1), 0) if word[at] == "x" else (0, 2 ** (j - 1))
+            middle = (0, 0, (dx or 2 ** i) - 1, (dy or 2 ** j) - 1)
+            low = told(at + 1, [part for part in (common_box(box, middle) for box in parts) if part is not None])
+            high = told(at + 1, [(x1 - dx, y1 - dy, x2 - dx, y2 - dy) for x1, y1, x2, y2 in parts])
+            runs = low[3] + high[3] - int(low[1] and high[0])
+            known[at, parts] = (low[0], high[1], low[2] + high[2], runs)
+        return known[at, parts]
+
+    return told(0, boxes)[2:]

@@ -68,6 +68,29 @@ def wrong_integers(low, high=None):
     return strangers() + [(), (low,), (low, low), [low], str(low), str(low).encode()] + beside
 
 
+def wrong_items(x_bits, y_bits):
+    """Return values that are no item of a load."""
+    box = (0, 0, 2 ** x_bits - 1, 2 ** y_bits - 1)
+    wrong = [0, 1, -1, (), box, (box,), (box, 1, 1), (1, box), [box, 1], (box, (1,)), (box, [1]), ((box, 1),), (1, 1)]
+    wrong += [(value, 1) for value in wrong_boxes(x_bits, y_bits)]
+    return strangers() + wrong + [(box, value) for value in wrong_integers(1, 10 ** 30)]
+
+
+def wrong_lists(right, wrong, most):
+    """Return tuples (value, index) of values that are no list of 1 to so many right items.
+
+    right is one of these, wrong are values that are none; the index of the first wrong item, or None.
+    """
+    found = [(value, None) for value in strangers() + [0, 1, -1, (), (right,), (right, right), right, {right: right}]
+             if not isinstance(value, list)]
+    found += [([], None), ([right] * (most + 1), None), ([None] * (most + 1), None), ([right] * 400, None)]
+    found += [([value], 0) for value in wrong] + [([right] * at + [wrong[at]], at) for at in range(most)]
+    for at in range(most):
+        found += [([right] * at + [value] + [right] * (most - at - 1), at) for value in (None, True, [], wrong[-1])]
+        found.append(([right] * at + wrong[:most - at], at))
+    return found
+
+
 def words(x_bits, y_bits):
     """Return all words of so many letters x and y."""
     many = x_bits + y_bits
@@ -100,6 +123,12 @@ def some_box(chance, word):
     x1, x2 = sorted(chance.randrange(2 ** word.count("x")) for _ in range(2))
     y1, y2 = sorted(chance.randrange(2 ** word.count("y")) for _ in range(2))
     return (x1, y1, x2, y2)
+
+
+def some_load(chance, word, many):
+    """Return a load of so many items for the grid of a word, the weights of all sizes."""
+    weights = [chance.randint(1, 10 ** chance.choice((0, 1, 2, 15, 30))) for _ in range(many)]
+    return [(some_box(chance, word), weight) for weight in weights]
 
 
 def some_cell(chance, box):
@@ -209,3 +238,8 @@ def all_ways(spans):
     for many in range(len(gaps) + 1):
         ways |= {(1 + many, area_told + sum(gaps) - sum(left)) for left in combinations(gaps, many)}
     return ways
+
+
+def cells_of_boxes(boxes):
+    """Return the cells that are in at least one of some boxes."""
+    return {(x, y) for x1, y1, x2, y2 in boxes for x in range(x1, x2 + 1) for y in range(y1, y2 + 1)}

@@ -16,6 +16,13 @@ FUNCTIONS = {
     + ["count_pages(layout, box, bits)"],
     "ranks": ["rank(layout, box, key)", "cell_at(layout, box, index)", "next_cell(layout, box, key)"]
     + ["last_cell(layout, box, key)"],
+    "best": ["load_runs(layout, load)", "load_blocks(layout, load)", "best_layout(x_bits, y_bits, load)"]
+    + ["worst_layout(x_bits, y_bits, load)", "nth_best(x_bits, y_bits, load, index)"]
+    + ["best_blocks(x_bits, y_bits, load)", "best_page(x_bits, y_bits, load, bits)"],
+    "places": ["total_runs(layout, width, height)", "mean_runs(layout, width, height)"]
+    + ["fewest_runs(layout, width, height)", "most_runs(layout, width, height)"]
+    + ["best_anywhere(x_bits, y_bits, width, height)"],
+    "unions": ["cells_of(layout, boxes)", "runs_of(layout, boxes)"],
 }
 
 
