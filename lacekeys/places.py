@@ -13,14 +13,14 @@ from lacekeys.words import feet
 class Tail:
     """The last digits of places that go on alike, and of these only those at which the letters gain most.
 
-    gain: what the letters save there, or what they save with a minus; many: how many such digits there are; key, x, y:
-    those of them with the least key.
+    gain: what the letters save there, or what they save with a minus; many: how many such digits there are; x, y and
+    least_key: those of them with the least key.
     """
 
-    def __init__(self, gain, many, key, x, y):
+    def __init__(self, gain, many, least_key, x, y):
         self.gain = gain
         self.many = many
-        self.key = key
+        self.least_key = least_key
         self.x = x
         self.y = y
 
@@ -146,7 +146,7 @@ def _lengthened(letter, i, j, tail, width, height, sign):
             y += digit << j
         # Digits in front would shift the box by what changes nothing for this letter.
         gain = sign * saved_by(letter, i, j, (x, y, x + width - 1, y + height - 1))
-        found.append(Tail(tail.gain + gain, tail.many, tail.key + (digit << (i + j)), x, y))
+        found.append(Tail(tail.gain + gain, tail.many, tail.least_key + (digit << (i + j)), x, y))
     return found
 
 
@@ -169,5 +169,5 @@ def _better_of(one, two):
     """Return the Tail of those of two Tails at which the letters gain most."""
     if one.gain != two.gain:
         return one if one.gain > two.gain else two
-    first = one if one.key < two.key else two
-    return Tail(one.gain, one.many + two.many, first.key, first.x, first.y)
+    first = one if one.least_key < two.least_key else two
+    return Tail(one.gain, one.many + two.many, first.least_key, first.x, first.y)
