@@ -1,8 +1,8 @@
-"""Checks of arguments that may be any value: numbers, bits, cells, keys, boxes, sizes and loads."""
+"""Checks of arguments that may be any value: numbers, bits, cells, keys, boxes, sizes, budgets and loads."""
 
 from lacekeys.boxes import is_in_box
-from lacekeys.errors import InvalidBits, InvalidBox, InvalidBoxes, InvalidCell, InvalidIndex, InvalidKey
-from lacekeys.errors import InvalidLoad, InvalidNumber, InvalidSize
+from lacekeys.errors import InvalidBits, InvalidBox, InvalidBoxes, InvalidBudget, InvalidCell, InvalidIndex
+from lacekeys.errors import InvalidKey, InvalidLoad, InvalidNumber, InvalidSize
 
 MOST_BITS = 100
 MOST_ITEMS = 20
@@ -109,6 +109,12 @@ def check_sizes(width, height, x_bits, y_bits):
         raise InvalidSize("the width is not an integer from 1 to 2 ** x_bits")
     if not is_between(height, 1, 1 << y_bits):
         raise InvalidSize("the height is not an integer from 1 to 2 ** y_bits")
+
+
+def check_budget(budget):
+    """Raise InvalidBudget unless the value is an integer from 0 on."""
+    if not is_integer(budget) or budget < 0:
+        raise InvalidBudget("not an integer from 0 on")
 
 
 def check_load(load, x_bits, y_bits):

@@ -1,7 +1,7 @@
 """Layouts: which digits of x and of y make the key of a cell."""
 
 from lacekeys.checks import check_bits, check_box, check_cell, check_key, is_between
-from lacekeys.errors import InvalidBits, InvalidLayout, InvalidWord
+from lacekeys.errors import InvalidBits, InvalidLayout, InvalidWord, UnlikeGrids
 from lacekeys.words import feet, is_word
 
 
@@ -60,6 +60,12 @@ def check_layout(layout):
     """Raise InvalidLayout unless the value is a Layout."""
     if not isinstance(layout, Layout):
         raise InvalidLayout("not a Layout")
+
+
+def check_grid(layout, x_bits, y_bits):
+    """Raise UnlikeGrids unless a layout has so many letters x and y."""
+    if layout.x_bits != x_bits or layout.y_bits != y_bits:
+        raise UnlikeGrids("the layout has other numbers of letters x or y")
 
 
 def check_layout_and_box(layout, box):

@@ -1,4 +1,4 @@
-"""Holds the functions and classes against the interface of the document: their files, names and arguments."""
+"""Holds the functions, classes and methods against the interface of the document: files, names and arguments."""
 
 import importlib
 import inspect
@@ -23,6 +23,23 @@ FUNCTIONS = {
     + ["fewest_runs(layout, width, height)", "most_runs(layout, width, height)"]
     + ["best_anywhere(x_bits, y_bits, width, height)"],
     "unions": ["cells_of(layout, boxes)", "runs_of(layout, boxes)"],
+    "alike": ["parting_box(layout, second)", "count_ahead(x_bits, y_bits, cell, other)"],
+    "texts": ["show_load(x_bits, y_bits, load)", "read_load(x_bits, y_bits, text)"],
+    "sheets": ["LoadSheet(x_bits, y_bits)", "BudgetSheet(x_bits, y_bits, budget)"],
+    "console": ["Console()"],
+}
+METHODS = {
+    ("layouts", "Layout"): ["key(self, cell)", "cell(self, key)", "__eq__(self, other)"],
+    ("sheets", "LoadSheet"): ["put(self, box, weight)", "drop(self, index)", "weigh(self, index, weight)"]
+    + ["undo(self)", "log(self)", "runs(self, layout)", "best(self)", "preview(self, *operations)"]
+    + ["__eq__(self, other)"],
+    ("sheets", "BudgetSheet"): ["put(self, box, weight)", "drop(self, index)", "weigh(self, index, weight)"]
+    + ["preview(self, *operations)", "__eq__(self, other)"],
+    ("console", "Console"): ["execute(self, command)"],
+}
+PROPERTIES = {
+    ("layouts", "Layout"): ["word", "x_bits", "y_bits"], ("sheets", "LoadSheet"): ["load"],
+    ("sheets", "BudgetSheet"): ["budget"],
 }
 
 
@@ -35,6 +52,20 @@ class InterfaceTest(unittest.TestCase):
                     one = getattr(module, text.partition("(")[0])
                     self.assertEqual(one.__module__, module.__name__)
                     self.assertEqual(one.__name__ + str(inspect.signature(one)), text)
+
+    def test_each_method_is_defined_in_its_class(self):
+        for (name, kind), told in METHODS.items():
+            methods = vars(getattr(importlib.import_module(f"lacekeys.{name}"), kind))
+            for text in told:
+                with self.subTest(kind, text=text):
+                    one = methods[text.partition("(")[0]]
+                    self.assertEqual(one.__name__ + str(inspect.signature(one)), text)
+
+    def test_each_property_is_defined_in_its_class(self):
+        for (name, kind), told in PROPERTIES.items():
+            methods = vars(getattr(importlib.import_module(f"lacekeys.{name}"), kind))
+            for one in told:
+                self.assertIsInstance(methods[one], property)
 
 
 if __name__ == "__main__":
